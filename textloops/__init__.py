@@ -1,0 +1,1 @@
+"""Textloops: programs that go over a text in loops within loops."""

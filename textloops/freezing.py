@@ -1,0 +1,20 @@
+"""Sequences that were passed, as tuples at every level."""
+
+
+def frozen(value):
+    """Returns the value; a list or tuple becomes a tuple at every level, so that later changes have no effect."""
+    # Blocks and tests of made programs may lie deep within one another: so this goes on without recursion.
+    rows = [[]]
+    tasks = [(value, False)]
+    while tasks:
+        item, is_row_end = tasks.pop()
+        if is_row_end:
+            row = rows.pop()
+            rows[-1].append(tuple(row))
+        elif isinstance(item, (list, tuple)):
+            rows.append([])
+            tasks.append((None, True))
+            tasks.extend([(part, False) for part in item[::-1]])
+        else:
+            rows[-1].append(item)
+    return rows[0][0]
