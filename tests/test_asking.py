@@ -201,8 +201,20 @@ class FarAnswerTest(unittest.TestCase):
         self.assertIs(far_answer(scattered("ab", "a" * 40), [("a", 39), ("b", times)]), False)
         self.assertIs(far_answer(scattered("ab", "a" * 40), [("ab", times)]), True)
 
+    def test_a_ring_behind_other_states(self):
+        for begin in range(4):
+            for length in range(1, 5):
+                last = begin + length - 1
+                rows = [[s + 1 if s < last else begin] for s in range(last + 1)]
+                reader = Reader("a", rows, list(range(last + 1)))
+                for times in range(20):
+                    wanted = times if times < begin else begin + (times - begin) % length
+                    self.assertEqual(far_answer(reader, [("a", times)]), wanted)
+                    self.assertEqual(far_answer(reader, [("aaa", times), ("a", 2)]), reader("a" * (3 * times + 2)))
+
     def test_bad_words(self):
         self.assertEqual(fault(far_answer, ending("ab"), [("a", 1), ("abc", 0), ("d", 5)]), ("BadText", "abc", 2))
+        self.assertEqual(fault(far_answer, ending("ab"), [["b", 10 ** 40], ["aB", 10 ** 40]]), ("BadText", "aB", 1))
 
     def test_large_rings(self):
         ring = Reader("a", [[(s + 1) % 4000] for s in range(4000)], list(range(4000)))

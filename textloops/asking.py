@@ -1,7 +1,7 @@
 """Questions about what a reader answers."""
 
 from textloops.answers import wished_states
-from textloops.checks import check_text, letter_indexes
+from textloops.checks import letter_indexes
 from textloops.exploring import explored
 from textloops.paths import least_placed_text
 from textloops.placing import next_places
@@ -174,8 +174,6 @@ def sure_state(plain):
 
 def far_answer(reader, pieces):
     """Returns the answer for the text in which each word of the pieces `(word, times)` stands so many times."""
-    for word, _ in pieces:
-        check_text(word, reader.alphabet)
     state = 0
     for word, times in pieces:
         state = state_behind(reader, state, letter_indexes(word, reader.alphabet), times)
