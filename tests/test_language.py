@@ -31,7 +31,7 @@ BARRED_WORDS = set((
     "type typing typing_extensions enum Enum IntEnum StrEnum Flag IntFlag Generic Protocol ABC ABCMeta namedtuple "
     "NamedTuple TypedDict TYPE_CHECKING abstractmethod dataclass overload contextmanager _wall _WallAttr"
 ).split())
-AT_ONCE = {"zip", "enumerate", "reversed", "set"}
+AT_ONCE = {"zip", "enumerate", "reversed", "set", "range"}
 PLAIN = (ast.Constant, ast.Tuple, ast.List, ast.Dict)
 
 

@@ -61,3 +61,33 @@ def check_test_names(test, reads, loops, marks):
         else:
             check_known(part[1], loops)
             check_known(part[2], loops)
+
+
+def chances(test, known):
+    """Returns whether the test may hold and whether it may fail.
+
+    `known` gives such a pair for each of its simple tests; for a truth value that is sure it is `(True, False)` or
+    `(False, True)`.
+    """
+    kept = []
+    waiting = [(test, False)]
+    while waiting:
+        part, is_ready = waiting.pop()
+        within = tests_within(part)
+        if not within:
+            kept.append(known[part])
+        elif not is_ready:
+            waiting.append((part, True))
+            waiting.extend([(inner, False) for inner in within])
+        elif part[0] == "not":
+            holds, fails = kept.pop()
+            kept.append((fails, holds))
+        else:
+            kept.append(both_chances(part[0], kept.pop(), kept.pop()))
+    return kept[0]
+
+
+def both_chances(word, one, two):
+    if word == "and":
+        return (one[0] and two[0], one[1] or two[1])
+    return (one[0] or two[0], one[1] and two[1])

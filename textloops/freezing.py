@@ -3,6 +3,8 @@
 
 def frozen(value):
     """Returns the value; a list or tuple becomes a tuple at every level, so that later changes have no effect."""
+    if isinstance(value, tuple) and not any([isinstance(part, (list, tuple)) for part in value]):
+        return value
     # Blocks and tests of made programs may lie deep within one another: so this goes on without recursion.
     rows = [[]]
     tasks = [(value, False)]

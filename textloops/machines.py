@@ -1,0 +1,74 @@
+"""Readers while they are worked on: without alphabet and names, and with numbers for answers."""
+
+from textloops.exploring import explored
+from textloops.least import least_form
+
+
+class Machine:
+    """A reader over `width` letters with `count` names, in least form.
+
+    `only` is the answer if all answers are the same one, otherwise None.
+    """
+
+    def __init__(self, width, count, moves, answers, lefts):
+        self.width = width
+        self.count = count
+        self.moves = moves
+        self.answers = answers
+        self.lefts = lefts
+        self.only = None
+        if len(moves) == 1 << count:
+            ends = [answer for answer, left in zip(answers, lefts) if left == 0]
+            self.only = ends[0]
+
+
+def least_machine(width, count, moves, answers, lefts):
+    """Returns the machine of a description that need not be in least form."""
+    return Machine(width, count, *least_form(width, moves, answers, lefts))
+
+
+def constant_machine(width, count, answer):
+    """Returns the machine that always has this answer."""
+    everything = (1 << count) - 1
+    moves = []
+    for met in range(everything + 1):
+        row = []
+        for chosen in range(everything + 1):
+            row.extend([met | chosen if met & chosen == 0 else None for _ in range(width)])
+        moves.append(row)
+    lefts = [everything - met for met in range(everything + 1)]
+    return least_machine(width, count, moves, [answer if left == 0 else None for left in lefts], lefts)
+
+
+def mapped(machine, change):
+    """Returns the machine with the answers `change(answer)`."""
+    changes = {}
+    for answer, left in zip(machine.answers, machine.lefts):
+        if left == 0 and answer not in changes:
+            changes[answer] = change(answer)
+    answers = [changes[answer] if left == 0 else None for answer, left in zip(machine.answers, machine.lefts)]
+    if len(set(list(changes.values()))) == len(changes):
+        return Machine(machine.width, machine.count, machine.moves, answers, machine.lefts)
+    return least_machine(machine.width, machine.count, machine.moves, answers, machine.lefts)
+
+
+def joined(one, two, answer_of):
+    """Returns the machine with the answers `answer_of(answer of one, answer of two)`."""
+    if one.only is not None:
+        return mapped(two, lambda answer: answer_of(one.only, answer))
+    if two.only is not None:
+        return mapped(one, lambda answer: answer_of(answer, two.only))
+
+    def row_of(pair):
+        first, second = pair
+        row = []
+        for entry, other in zip(one.moves[first], two.moves[second]):
+            row.append(None if entry is None else (entry, other))
+        return row
+
+    pairs, rows = explored((0, 0), row_of)
+    lefts = [one.lefts[first] for first, _ in pairs]
+    answers = []
+    for left, (first, second) in zip(lefts, pairs):
+        answers.append(answer_of(one.answers[first], two.answers[second]) if left == 0 else None)
+    return least_machine(one.width, one.count, rows, answers, lefts)

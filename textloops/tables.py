@@ -1,0 +1,71 @@
+"""Tables: the effects of statements for all texts and places."""
+
+from textloops.entries import Entries
+from textloops.limits import check_spot, check_watcher
+from textloops.outlines import Outline
+from textloops.readers import Reader
+from textloops.standings import Standings
+from textloops.tabling import Tabling
+
+
+def standing_count(program, watcher, spot):
+    """Returns the number of standings at the spot."""
+    check_watcher(program, watcher)
+    check_spot(program, spot)
+    return watcher.size << len(program.spots[spot][2])
+
+
+def table(program, watcher, spot):
+    """Returns the reader that tells the effect of the statement at the spot."""
+    check_watcher(program, watcher)
+    check_spot(program, spot)
+    outline = Outline(program.block)
+    standings = Standings(program, outline, watcher)
+    entries = Entries(outline, standings)
+    entries.go_from((spot,), list(range(standings.count(spot))))
+    tabling = Tabling(program, outline, standings, entries.met)
+    tabling.work_out(spot, outline.ends[spot])
+    return spot_reader(tabling, spot)
+
+
+def tables(program, watcher):
+    """Returns the readers that tell the effects of all statements, in the order of the spots."""
+    check_watcher(program, watcher)
+    outline = Outline(program.block)
+    standings = Standings(program, outline, watcher)
+    met = []
+    for spot in range(program.size):
+        met.append({standing: True for standing in range(standings.count(spot))})
+    tabling = Tabling(program, outline, standings, met)
+    tabling.work_out(0, program.size)
+    return tuple([spot_reader(tabling, spot) for spot in range(program.size)])
+
+
+def spot_reader(tabling, spot):
+    """Returns the reader of the effects of the statement at the spot, which have been worked out."""
+    return effects_reader(tabling, tabling.machines[spot], tabling.names(spot), tabling.book(spot))
+
+
+def effects_reader(tabling, machine, names, book):
+    """Returns the reader with the effects of a machine for its answers."""
+    answers = [None if effect is None else book.targets(effect) for effect in machine.answers]
+    return Reader(tabling.program.reads, machine.moves, answers, names=names, lefts=machine.lefts)
+
+
+def whole_table(program, watcher):
+    """Returns the reader that tells the effect of the whole block of the program."""
+    check_watcher(program, watcher)
+    return whole_effects(program, watcher, list(range(watcher.size)))
+
+
+def whole_effects(program, watcher, entering):
+    """Returns the reader of the effects of the whole block, for the states of the watcher in which it may begin."""
+    outline = Outline(program.block)
+    standings = Standings(program, outline, watcher)
+    entries = Entries(outline, standings)
+    entries.go_from(outline.block, entering)
+    tabling = Tabling(program, outline, standings, entries.met)
+    tabling.work_out(0, program.size)
+    book = tabling.book_for(watcher.size)
+    begun = {standing: True for standing in entering}
+    return effects_reader(tabling, tabling.block_machine(outline.block, (), book, begun), (), book)
