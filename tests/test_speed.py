@@ -7,7 +7,11 @@ import unittest
 from tests.shapes import FOUR_MARKS, TWO_LOOPS, Shaper
 from textloops.asking import far_answer
 from textloops.foretelling import foretell, printing, verdict
+from textloops.hanging import hangs
+from textloops.joining import behind, copying, row_of
+from textloops.reaches import claim, come_to, printed_at, reach
 from textloops.tables import table, tables, whole_table
+from textloops.tallies import count_parting, far_count, tally, total_count
 from textloops.turning import turned
 from textloops.watchers import containing, counting, ending, exactly, never_behind, scattered
 
@@ -16,6 +20,10 @@ WATCHERS = (
     never_behind("ab", "a", "b"), exactly("ab", "a"),
 )
 MANY = 10 ** 40
+
+
+def watcher_limit(watcher):
+    return containing("ab", "a") if watcher.answers[0] is False else None
 
 
 class SpeedTest(unittest.TestCase):
@@ -39,6 +47,27 @@ class SpeedTest(unittest.TestCase):
             self.assertSoon(5, printing, program, "abba")
             self.assertSoon(5, turned, program)
 
+    def test_questions_about_runs_of_such_programs(self):
+        limit = containing("ab", "ab")
+        for program in (TWO_LOOPS, FOUR_MARKS):
+            for spot in range(program.size):
+                self.assertSoon(5, reach, program, spot)
+                self.assertSoon(5, come_to, program, spot, within=limit)
+                for name in program.spots[spot][2]:
+                    self.assertSoon(5, claim, program, spot, ("not", ("mark", name)), within=limit)
+                self.assertSoon(5, hangs, program, spot)
+            for names in ([], ["x"], ["x", "y"]):
+                self.assertSoon(5, printed_at, program, names)
+            made = self.assertSoon(5, tally, program)
+            other = self.assertSoon(5, tally, program, letters="a", within=limit)
+            self.assertSoon(5, count_parting, made, other)
+            for one in (made, other):
+                self.assertSoon(1, far_count, one, [("ab", MANY), ("b", 3), ("aab", MANY - 1)])
+                self.assertSoon(5, total_count, one, 500)
+            self.assertSoon(5, behind, program, copying("ab"))
+            self.assertSoon(5, row_of, [copying("ab"), copying("ab"), program])
+            self.assertSoon(5, behind, program, TWO_LOOPS)
+
     def test_many_random_programs(self):
         begin = time.perf_counter()
         for seed in range(60):
@@ -48,6 +77,9 @@ class SpeedTest(unittest.TestCase):
                 tables(program, watcher)
                 foretell(program, watcher)
                 printing(program, "ab")
+                far_count(tally(program), [("ab", MANY)])
+                hangs(program, program.size - 1)
+                come_to(program, program.size - 1, within=watcher_limit(watcher))
         self.assertLess(time.perf_counter() - begin, 60)
 
 

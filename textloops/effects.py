@@ -31,6 +31,10 @@ class EffectBook:
         """Returns the effect that leaves these standings as they are and is not begun in others."""
         return self.number([one if one in standings else self.nowhere for one in range(self.nowhere)])
 
+    def target(self, standing, effect):
+        """Returns where the effect leads from the standing; if this is not begun, it leads nowhere."""
+        return self.effects[effect][standing]
+
     def then(self, first, second):
         """Returns the effect of two effects, one behind the other."""
         key = (first, second)

@@ -81,7 +81,7 @@ class Entries:
         if spot not in self.targets:
             statement = self.outline.statements[spot]
             if statement[0] == "if":
-                self.targets[spot] = self.standings.test_chances(spot, {})
+                self.targets[spot] = self.standings.test_chances(spot, statement[1], {})
             elif statement[0] in ("set", "clear"):
                 self.targets[spot] = [self.standings.behind_mark(spot)]
             elif statement[0] == "print":

@@ -2,6 +2,7 @@
 
 from textloops.exploring import explored
 from textloops.least import least_form
+from textloops.readers import Reader
 
 
 class Machine:
@@ -72,3 +73,56 @@ def joined(one, two, answer_of):
     for left, (first, second) in zip(lefts, pairs):
         answers.append(answer_of(one.answers[first], two.answers[second]) if left == 0 else None)
     return least_machine(one.width, one.count, rows, answers, lefts)
+
+
+def lifted(machine):
+    """Returns the machine with one more name, behind the others; the answers do not hang on it."""
+    width = machine.width
+    loop = 1 << machine.count
+    # State 2 * s is for the state s before the place of the new name, state 2 * s + 1 for s behind it.
+    moves = []
+    lefts = []
+    answers = []
+    for row, left, answer in zip(machine.moves, machine.lefts, machine.answers):
+        behind = [None if target is None else 2 * target + 1 for target in row]
+        moves.append([None if target is None else 2 * target for target in row] + behind)
+        moves.append(behind + [None for _ in range(loop * width)])
+        lefts.extend([left + loop, left])
+        answers.extend([None, answer])
+    return Machine(width, machine.count + 1, moves, answers, lefts)
+
+
+def reordered(machine, order):
+    """Returns the machine with its names in another order; `order` has the new index of each name."""
+    sets = [0]
+    for index in order:
+        sets.extend([chosen + (1 << index) for chosen in sets])
+    old_sets = [sets.index(chosen) for chosen in range(len(sets))]
+    moves = []
+    for row in machine.moves:
+        changed = []
+        for old in old_sets:
+            changed.extend(row[old * machine.width:(old + 1) * machine.width])
+        moves.append(changed)
+    lefts = [sets[left] for left in machine.lefts]
+    return Machine(machine.width, machine.count, moves, machine.answers, lefts)
+
+
+def plain_machine(reader):
+    """Returns the machine of a reader."""
+    return Machine(len(reader.alphabet), len(reader.names), reader.moves, reader.answers, reader.lefts)
+
+
+def limited(machine, within, answer):
+    """Returns the machine that has this answer instead for texts that are not let by."""
+    if within is None:
+        return machine
+    limit = plain_machine(within)
+    for _ in range(machine.count):
+        limit = lifted(limit)
+    return joined(machine, limit, lambda own, is_let_by: own if is_let_by else answer)
+
+
+def machine_reader(machine, alphabet, names):
+    """Returns the reader of a machine."""
+    return Reader(alphabet, machine.moves, machine.answers, names=names, lefts=machine.lefts)

@@ -52,12 +52,11 @@ class Standings:
         count = len(self.marks[spot])
         return tuple([number >> (count - 1 - index) & 1 == 1 for index in range(count)])
 
-    def test_chances(self, spot, known):
-        """Returns, for each standing, whether the test of the `if` may hold and whether it may fail.
+    def test_chances(self, spot, test, known):
+        """Returns, for each standing at the spot, whether the test may hold and whether it may fail.
 
         `known` has the truth values of simple tests of letters and places that are sure.
         """
-        test = self.statements[spot][1]
         pairs = {part: (True, True) for part in simple_tests(test)}
         for part, truth in known.items():
             pairs[part] = (truth, not truth)

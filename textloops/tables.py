@@ -24,7 +24,6 @@ def table(program, watcher, spot):
     entries = Entries(outline, standings)
     entries.go_from((spot,), list(range(standings.count(spot))))
     tabling = Tabling(program, outline, standings, entries.met)
-    tabling.work_out(spot, outline.ends[spot])
     return spot_reader(tabling, spot)
 
 
@@ -37,13 +36,14 @@ def tables(program, watcher):
     for spot in range(program.size):
         met.append({standing: True for standing in range(standings.count(spot))})
     tabling = Tabling(program, outline, standings, met)
-    tabling.work_out(0, program.size)
-    return tuple([spot_reader(tabling, spot) for spot in range(program.size)])
+    # The last spots come first, so that what stands within a statement is there when the statement is looked at.
+    readers = [spot_reader(tabling, spot) for spot in range(program.size - 1, -1, -1)]
+    return tuple(readers[::-1])
 
 
 def spot_reader(tabling, spot):
-    """Returns the reader of the effects of the statement at the spot, which have been worked out."""
-    return effects_reader(tabling, tabling.machines[spot], tabling.names(spot), tabling.book(spot))
+    """Returns the reader of the effects of the statement at the spot."""
+    return effects_reader(tabling, tabling.machine(spot), tabling.names(spot), tabling.book(spot))
 
 
 def effects_reader(tabling, machine, names, book):
@@ -65,7 +65,6 @@ def whole_effects(program, watcher, entering):
     entries = Entries(outline, standings)
     entries.go_from(outline.block, entering)
     tabling = Tabling(program, outline, standings, entries.met)
-    tabling.work_out(0, program.size)
     book = tabling.book_for(watcher.size)
     begun = {standing: True for standing in entering}
     return effects_reader(tabling, tabling.block_machine(outline.block, (), book, begun), (), book)

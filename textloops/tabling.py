@@ -20,6 +20,7 @@ class Tabling:
         self.met = met
         self.books = {}
         self.machines = {}
+        self.known_rounds = {}
 
     def book(self, spot):
         """Returns the book of the effects at a spot."""
@@ -30,15 +31,19 @@ class Tabling:
             self.books[count] = EffectBook(count)
         return self.books[count]
 
-    def work_out(self, first, end):
-        """Works out the machines of the statements from the first spot up to the one before the end."""
-        for spot in range(end - 1, first - 1, -1):
-            self.machines[spot] = self.machine_of(spot)
+    def machine(self, spot):
+        """Returns the machine of the statement at the spot."""
+        if spot not in self.machines:
+            for within in range(self.outline.ends[spot] - 1, spot - 1, -1):
+                if within not in self.machines:
+                    self.machines[within] = self.machine_of(within)
+        return self.machines[spot]
 
     def machine_of(self, spot):
+        """Works out the machine of a statement when those of the statements within it are known."""
         statement = self.outline.statements[spot]
         if statement[0] == "for":
-            return self.loop_machine(spot, statement[2])
+            return self.rounds(spot).whole(self.met[spot], self.met_within(spot))
         if statement[0] == "mark":
             return self.mark_machine(spot)
         if statement[0] == "if":
@@ -74,15 +79,22 @@ class Tabling:
         """Returns the machine of a block that is begun in the met standings; the names are the loops around it."""
         machine = self.constant(len(names), book.staying(met))
         for spot in block:
-            machine = joined(machine, self.machines[spot], book.then)
+            machine = joined(machine, self.machine(spot), book.then)
         return machine
 
-    def loop_machine(self, spot, way):
+    def rounds(self, spot):
+        """Returns the rounds of the loop at the spot."""
+        if spot not in self.known_rounds:
+            _, name, way, _ = self.outline.statements[spot]
+            names = (*self.names(spot), name)
+            body = self.block_machine(self.outline.blocks[spot][0], names, self.book(spot), self.met_within(spot))
+            self.known_rounds[spot] = Rounds(self.book(spot), body, way)
+        return self.known_rounds[spot]
+
+    def met_within(self, spot):
+        """Returns the standings with which rounds of the loop at the spot begin."""
         block = self.outline.blocks[spot][0]
-        met = self.met[block[0]] if block else self.met[spot]
-        names = (*self.names(spot), self.outline.statements[spot][1])
-        body = self.block_machine(block, names, self.book(spot), met)
-        return Rounds(self.book(spot), body, way).whole(self.met[spot], met)
+        return self.met[block[0]] if block else self.met[spot]
 
     def mark_machine(self, spot):
         standings = self.standings
@@ -119,7 +131,7 @@ class Tabling:
 
         def mask(truths):
             known = {test: truth for test, truth in zip(tests, truths)}
-            found = self.standings.test_chances(spot, known)
+            found = self.standings.test_chances(spot, self.outline.statements[spot][1], known)
             return book.staying({one: True for one in self.met[spot] if found[one][branch]})
 
         return mask
