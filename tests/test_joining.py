@@ -70,6 +70,15 @@ class BehindTest(unittest.TestCase):
             second = parse_program(f"reads abc prints abc\nfor x up:\n  if x in {letters}:\n    copy x\n  else:\n    print b")
             self.assertBehind(first, second, 3)
 
+    def test_tests_of_which_a_part_is_known(self):
+        first = parse_program("reads ab prints ab\nfor x up:\n  copy x\n  print ba")
+        for word, one, two in itertools.product(["and", "or"], ["x in a", "not x in a", "x in ab"], ["y in b", "not y in b"]):
+            for test in (f"({one} {word} {two})", f"({two} {word} {one})", f"not ({one} {word} {two})"):
+                second = parse_program(
+                    f"reads ab prints ab\nfor x up:\n  for y up:\n    if {test}:\n      copy x\n    else:\n      copy y"
+                )
+                self.assertBehind(first, second, 2)
+
     def test_programs_that_print_nothing(self):
         silent = Program("ab", "ab", [("for", "x", "up", [("mark", "m", [("set", "m")])])])
         for other in (copying("ab"), PAIRS, AFTER_A, Program("ab", "c", [("print", "c")])):

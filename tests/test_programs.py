@@ -239,6 +239,19 @@ class DeepTest(unittest.TestCase):
         self.assertEqual(program.spots[-1], ("set", ("x",), ("m",)))
         self.assertTrue(program == Program("ab", "c", program.block))
 
+    def test_equality_of_made_programs_that_are_nested_deeper(self):
+        programs = []
+        for last in ("a", "a", "b"):
+            test = ("in", "x", last)
+            for _ in range(3000):
+                test = ("not", test)
+            block = [("if", test, [], [])]
+            for _ in range(3000):
+                block = [("if", ("in", "x", "a"), [], block)]
+            programs.append(Program("ab", "c", [in_loop(*block)]))
+        self.assertTrue(programs[0] == programs[1])
+        self.assertFalse(programs[0] == programs[2])
+
     def test_many_statements(self):
         program = Program("ab", "c", [("print", "c")] * 800)
         self.assertEqual(program.size, 800)

@@ -144,6 +144,13 @@ class TablesTest(unittest.TestCase):
         self.assertEqual(tables(program=PAIRS, watcher=watcher)[4]("a", (0, 0)), (1, 0))
         self.assertEqual(whole_table(program=PAIRS, watcher=watcher)("ab"), (1, 0))
 
+    def test_deep_blocks(self):
+        block = [("print", "c")]
+        for _ in range(1200):
+            block = [("if", ("in", "x", "a"), block, [])]
+        program = Program("ab", "c", [("for", "x", "up", block)])
+        self.assertEqual(whole_table(program, counting("c", "c", 3))("aba"), (2, 0, 1))
+
     def test_far_texts(self):
         whole = whole_table(AFTER_A, counting("c", "c", 7))
         many = 10 ** 40

@@ -27,12 +27,12 @@ class Coder:
             if task[0] == "label":
                 self.labels[task[1]] = len(self.orders)
             elif task[0] == "go":
-                self.add("go", yes=task[1])
+                self.order("go", yes=task[1])
             elif task[0] == "test":
                 self.add_test(task[1], task[2], task[3])
             else:
                 self.add_statement(task[1])
-        self.add("end")
+        self.order("end")
         found = []
         for word, one, two, yes, no in self.orders:
             found.append((word, one, two, self.position(yes), self.position(no)))
@@ -49,7 +49,7 @@ class Coder:
         self.labels.append(0)
         return len(self.labels) - 1
 
-    def add(self, word, one=None, two=None, yes=None, no=None):
+    def order(self, word, one=None, two=None, yes=None, no=None):
         self.orders.append((word, one, two, yes, no))
 
     def block_tasks(self, block):
@@ -60,22 +60,22 @@ class Coder:
         statement = self.outline.statements[spot]
         blocks = self.outline.blocks[spot]
         if statement[0] in self.kinds:
-            self.add("stop", spot)
+            self.order("stop", spot)
         if statement[0] == "for":
             self.add_loop(self.loop_of[statement[1]], statement[2], blocks[0])
         elif statement[0] == "mark":
-            self.add("put", self.mark_of[statement[1]], False)
+            self.order("put", self.mark_of[statement[1]], False)
             self.wait(self.block_tasks(blocks[0]))
         elif statement[0] in ("set", "clear"):
-            self.add("put", self.mark_of[statement[1]], statement[0] == "set")
+            self.order("put", self.mark_of[statement[1]], statement[0] == "set")
         elif statement[0] == "if":
             self.add_if(statement[1], blocks)
 
     def add_loop(self, loop, way, block):
         head, body, behind = self.fresh(), self.fresh(), self.fresh()
-        self.add("first", loop, way == "up")
+        self.order("first", loop, way == "up")
         self.labels[head] = len(self.orders)
-        self.add("next", loop, 1 if way == "up" else -1, yes=body, no=behind)
+        self.order("next", loop, 1 if way == "up" else -1, yes=body, no=behind)
         self.wait([("label", body), *self.block_tasks(block), ("go", head), ("label", behind)])
 
     def add_if(self, test, blocks):
@@ -96,11 +96,11 @@ class Coder:
             ways = (between, no) if test[0] == "and" else (yes, between)
             self.wait([("test", first, *ways), ("label", between), ("test", second, yes, no)])
         elif test[0] == "mark":
-            self.add("mark", self.mark_of[test[1]], yes=yes, no=no)
+            self.order("mark", self.mark_of[test[1]], yes=yes, no=no)
         elif test[0] == "in":
-            self.add("in", self.loop_of[test[1]], test[2], yes, no)
+            self.order("in", self.loop_of[test[1]], test[2], yes, no)
         else:
-            self.add(test[0], self.loop_of[test[1]], self.loop_of[test[2]], yes, no)
+            self.order(test[0], self.loop_of[test[1]], self.loop_of[test[2]], yes, no)
 
 
 def numbered(names):

@@ -2,7 +2,7 @@
 
 from textloops.answers import AnswerBook
 from textloops.errors import DifferentReaders
-from textloops.exploring import explored
+from textloops.exploring import side_by_side
 from textloops.freezing import frozen
 from textloops.paths import placed_text, way_back
 from textloops.readers import Reader
@@ -53,15 +53,7 @@ def root(joins, number):
 def paired(one, two):
     """Returns the reader whose answer is the pair of the answers of both readers."""
     check_alike(one, two)
-
-    def row_of(pair):
-        first, second = pair
-        row = []
-        for entry, other in zip(one.moves[first], two.moves[second]):
-            row.append(None if entry is None else (entry, other))
-        return row
-
-    pairs, rows = explored((0, 0), row_of)
+    pairs, rows = side_by_side(one, two)
     lefts = [one.lefts[state] for state, _ in pairs]
     answers = []
     for left, (state, fellow) in zip(lefts, pairs):

@@ -63,31 +63,38 @@ def check_test_names(test, reads, loops, marks):
             check_known(part[2], loops)
 
 
+def folded(test, simple, combined):
+    """Returns `simple(part)` for a simple test, otherwise `combined(word, values)` with the values of those within."""
+    values = []
+    waiting = [(test, False)]
+    while waiting:
+        part, is_ready = waiting.pop()
+        within = tests_within(part)
+        if not within:
+            values.append(simple(part))
+        elif is_ready:
+            own = values[-len(within):]
+            del values[-len(within):]
+            values.append(combined(part[0], own))
+        else:
+            waiting.append((part, True))
+            waiting.extend([(inner, False) for inner in within[::-1]])
+    return values[0]
+
+
 def chances(test, known):
     """Returns whether the test may hold and whether it may fail.
 
     `known` gives such a pair for each of its simple tests; for a truth value that is sure it is `(True, False)` or
     `(False, True)`.
     """
-    kept = []
-    waiting = [(test, False)]
-    while waiting:
-        part, is_ready = waiting.pop()
-        within = tests_within(part)
-        if not within:
-            kept.append(known[part])
-        elif not is_ready:
-            waiting.append((part, True))
-            waiting.extend([(inner, False) for inner in within])
-        elif part[0] == "not":
-            holds, fails = kept.pop()
-            kept.append((fails, holds))
-        else:
-            kept.append(both_chances(part[0], kept.pop(), kept.pop()))
-    return kept[0]
+    return folded(test, lambda part: known[part], combined_chances)
 
 
-def both_chances(word, one, two):
+def combined_chances(word, pairs):
+    if word == "not":
+        return pairs[0][::-1]
+    one, two = pairs
     if word == "and":
         return (one[0] and two[0], one[1] or two[1])
     return (one[0] or two[0], one[1] and two[1])

@@ -21,3 +21,16 @@ def explored(start, row_of):
                 row.append(numbers[key])
         rows.append(tuple(row))
     return (keys, rows)
+
+
+def side_by_side(one, two):
+    """Goes through the pairs of states of two readers, or machines, that read the same; returns as `explored` does."""
+
+    def row_of(pair):
+        first, second = pair
+        row = []
+        for entry, other in zip(one.moves[first], two.moves[second]):
+            row.append(None if entry is None else (entry, other))
+        return row
+
+    return explored((0, 0), row_of)

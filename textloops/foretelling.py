@@ -2,7 +2,6 @@
 
 from textloops.answers import wished_states
 from textloops.asking import first_text, with_truths
-from textloops.checks import check_text
 from textloops.comparing import paired
 from textloops.limits import check_limit, check_watcher
 from textloops.readers import Reader
@@ -55,5 +54,4 @@ def word_of(keeping, breaking, sure):
 
 def printing(program, word):
     """Returns the reader that tells whether the program prints just the word."""
-    check_text(word, program.prints)
     return foretell(program, exactly(program.prints, word))

@@ -20,3 +20,20 @@ def frozen(value):
         else:
             rows[-1].append(item)
     return rows[0][0]
+
+
+def flat(value):
+    """Returns a list that is the same just for equal values, which are tuples, at all levels, of strings.
+
+    Tuples that lie very deep within one another cannot be compared straight.
+    """
+    found = []
+    waiting = [value]
+    while waiting:
+        item = waiting.pop()
+        if isinstance(item, tuple):
+            found.append(len(item))
+            waiting.extend(item[::-1])
+        else:
+            found.append(item)
+    return found

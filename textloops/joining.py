@@ -1,6 +1,5 @@
 """Programs one behind the other."""
 
-from textloops.checks import check_alphabet
 from textloops.errors import DifferentAlphabets
 from textloops.programs import Program
 from textloops.weaving import Weaving
@@ -15,7 +14,6 @@ def behind(first, second):
 
 def copying(alphabet):
     """Returns the program that prints the text itself."""
-    check_alphabet(alphabet)
     return Program(alphabet, alphabet, (("for", "x", "up", (("copy", "x"),)),))
 
 

@@ -1,6 +1,6 @@
 """Readers while they are worked on: without alphabet and names, and with numbers for answers."""
 
-from textloops.exploring import explored
+from textloops.exploring import side_by_side
 from textloops.least import least_form
 from textloops.readers import Reader
 
@@ -59,15 +59,7 @@ def joined(one, two, answer_of):
         return mapped(two, lambda answer: answer_of(one.only, answer))
     if two.only is not None:
         return mapped(one, lambda answer: answer_of(answer, two.only))
-
-    def row_of(pair):
-        first, second = pair
-        row = []
-        for entry, other in zip(one.moves[first], two.moves[second]):
-            row.append(None if entry is None else (entry, other))
-        return row
-
-    pairs, rows = explored((0, 0), row_of)
+    pairs, rows = side_by_side(one, two)
     lefts = [one.lefts[first] for first, _ in pairs]
     answers = []
     for left, (first, second) in zip(lefts, pairs):

@@ -1,6 +1,6 @@
 """Parts for making programs."""
 
-from textloops.conditions import simple_tests, tests_within
+from textloops.conditions import folded, simple_tests
 from textloops.outlines import Outline
 
 
@@ -30,23 +30,14 @@ def changed_test(test, change):
 
     If the whole truth value is known, this is what is returned.
     """
-    kept = []
-    waiting = [(test, False)]
-    while waiting:
-        part, is_ready = waiting.pop()
-        within = tests_within(part)
-        if not within:
-            kept.append(change(part))
-        elif not is_ready:
-            waiting.append((part, True))
-            waiting.extend([(inner, False) for inner in within[::-1]])
-        elif part[0] == "not":
-            kept.append(negated(kept.pop()))
-        else:
-            second = kept.pop()
-            first = kept.pop()
-            kept.append(both_of(first, second) if part[0] == "and" else one_of(first, second))
-    return kept[0]
+    return folded(test, change, combined_test)
+
+
+def combined_test(word, tests):
+    """Returns the test with this word and these tests in it, some of which may be truth values."""
+    if word == "not":
+        return negated(tests[0])
+    return both_of(*tests) if word == "and" else one_of(*tests)
 
 
 def is_truth(test):

@@ -3,7 +3,7 @@
 from textloops.checks import check_alphabet, check_name, check_text
 from textloops.conditions import check_known, check_test_form, check_test_names, first_word
 from textloops.errors import BadCopy, BadStatement, BadText, DoubleName
-from textloops.freezing import frozen
+from textloops.freezing import flat, frozen
 
 # How many items a statement has, by its first word.
 STATEMENT_SIZES = {"for": 4, "mark": 3, "set": 2, "clear": 2, "if": 4, "print": 2, "copy": 2}
@@ -36,7 +36,7 @@ class Program:
     def __eq__(self, other):
         return (
             isinstance(other, Program) and self.reads == other.reads and self.prints == other.prints
-            and self.block == other.block
+            and flat(self.block) == flat(other.block)
         )
 
 

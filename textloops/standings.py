@@ -14,7 +14,7 @@ class Standings:
         self.statements = outline.statements
         self.marks = [marks for _, _, marks in program.spots]
 
-    def count(self, spot):
+    def total(self, spot):
         """Returns how many standings there are at the spot."""
         return self.watcher.size << len(self.marks[spot])
 
@@ -23,7 +23,7 @@ class Standings:
         size = self.watcher.size
         letters = letter_indexes(word, self.watcher.alphabet)
         steps = [end_state(self.watcher, state, letters) for state in range(size)]
-        return [standing - standing % size + steps[standing % size] for standing in range(self.count(spot))]
+        return [standing - standing % size + steps[standing % size] for standing in range(self.total(spot))]
 
     def behind_mark(self, spot):
         """Returns the list of the standings to which the statement leads, a `set` or a `clear`."""
@@ -31,7 +31,7 @@ class Standings:
         names = self.marks[spot]
         worth = self.watcher.size << (len(names) - 1 - names.index(name))
         found = []
-        for standing in range(self.count(spot)):
+        for standing in range(self.total(spot)):
             others = standing - worth if standing // worth % 2 else standing
             found.append(others + worth if word == "set" else others)
         return found
@@ -61,7 +61,7 @@ class Standings:
         for part, truth in known.items():
             pairs[part] = (truth, not truth)
         found = []
-        for standing in range(0, self.count(spot), self.watcher.size):
+        for standing in range(0, self.total(spot), self.watcher.size):
             for name, truth in zip(self.marks[spot], self.truths(spot, standing)):
                 pairs[("mark", name)] = (truth, not truth)
             pair = chances(test, pairs)

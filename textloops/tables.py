@@ -22,7 +22,7 @@ def table(program, watcher, spot):
     outline = Outline(program.block)
     standings = Standings(program, outline, watcher)
     entries = Entries(outline, standings)
-    entries.go_from((spot,), list(range(standings.count(spot))))
+    entries.go_from((spot,), list(range(standings.total(spot))))
     tabling = Tabling(program, outline, standings, entries.met)
     return spot_reader(tabling, spot)
 
@@ -34,7 +34,7 @@ def tables(program, watcher):
     standings = Standings(program, outline, watcher)
     met = []
     for spot in range(program.size):
-        met.append({standing: True for standing in range(standings.count(spot))})
+        met.append({standing: True for standing in range(standings.total(spot))})
     tabling = Tabling(program, outline, standings, met)
     # The last spots come first, so that what stands within a statement is there when the statement is looked at.
     readers = [spot_reader(tabling, spot) for spot in range(program.size - 1, -1, -1)]

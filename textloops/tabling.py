@@ -24,7 +24,7 @@ class Tabling:
 
     def book(self, spot):
         """Returns the book of the effects at a spot."""
-        return self.book_for(self.standings.count(spot))
+        return self.book_for(self.standings.total(spot))
 
     def book_for(self, count):
         if count not in self.books:

@@ -112,8 +112,6 @@ def steps_of_basis(factors, width, size):
 def far_count(tally, pieces):
     """Returns the count of the text in which each word of the pieces `(word, times)` stands so many times."""
     parts = [(letter_indexes(word, tally.alphabet), times) for word, times in pieces]
-    if not tally.basis:
-        return 0
     row = first_row(tally)
     for letters, times in parts:
         row = row_behind_many(tally, row, letters, times)
@@ -139,8 +137,6 @@ def row_behind_many(tally, row, letters, times):
 
 def total_count(tally, length):
     """Returns the sum of the counts of all texts of this length."""
-    if not tally.basis:
-        return 0
     table = [[sum(cells) for cells in zip(*columns)] for columns in zip(*tally.tables)]
     tops, bottom = first_row(tally)
     for _ in range(length):
