@@ -107,6 +107,12 @@ class VerdictTest(unittest.TestCase):
             found = verdict(COPY, pairs, wished=wished)
             self.assertEqual([found.word, found.keeping, found.breaking], ["open", "", "a"])
 
+    def test_what_is_passed_stays(self):
+        wished = [[0, ["u"]], "a"]
+        limit = containing("ab", "b")
+        verdict(COPY, ending("ab"), wished=wished, within=limit)
+        self.assertEqual((wished, limit), ([[0, ["u"]], "a"], containing("ab", "b")))
+
     def test_a_far_text(self):
         found = verdict(COPY, counting("ab", "ab", 12), wished=list(range(11)))
         self.assertEqual([found.word, found.keeping, found.breaking], ["open", "", "a" * 11])

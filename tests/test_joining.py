@@ -145,6 +145,13 @@ class RowOfTest(unittest.TestCase):
         for text in texts_up_to("ab", 4):
             self.assertEqual(plain_print(made, text), plain_print(PAIRS, text))
 
+    def test_what_is_passed_stays(self):
+        first, second = parse_program(ROWS[2]), parse_program(ROWS[3])
+        programs = [first, second]
+        row_of(programs)
+        behind(first, second)
+        self.assertEqual(programs, [parse_program(ROWS[2]), parse_program(ROWS[3])])
+
     def test_alphabets_that_do_not_fit(self):
         for rows in (
             [PAIRS, PAIRS], [copying("ab"), PAIRS, copying("ab")], [copying("ab"), copying("ab"), copying("a")],

@@ -102,6 +102,13 @@ class LanguageTest(unittest.TestCase):
             self.assertTrue(ready, "files import from each other")
             done |= ready
 
+    def test_what_is_imported_is_used(self):
+        for name, tree in self.trees.items():
+            used = {node.id for node in ast.walk(tree) if isinstance(node, ast.Name)}
+            for node in tree.body:
+                if isinstance(node, ast.ImportFrom):
+                    self.assertFalse({alias.name for alias in node.names} - used, name)
+
     def test_module_level(self):
         for name, tree in self.trees.items():
             bound = []

@@ -199,6 +199,11 @@ class FarCountTest(unittest.TestCase):
             self.assertEqual(far_count(made, pieces), 2)
             self.assertEqual(far_count(tally=tally(copying("ab")), pieces=pieces), 0)
 
+    def test_what_is_passed_stays(self):
+        pieces = [["ab", 3], ["", 2], ["b", 10 ** 20]]
+        far_count(tally(PAIRS), pieces)
+        self.assertEqual(pieces, [["ab", 3], ["", 2], ["b", 10 ** 20]])
+
     def test_errors(self):
         made = tally(PAIRS)
         for pieces, wanted in [

@@ -1,11 +1,10 @@
 """What a watcher answers to what a program prints."""
 
-from textloops.answers import wished_states
 from textloops.asking import first_text, with_truths
 from textloops.comparing import paired
 from textloops.limits import check_limit, check_watcher
 from textloops.readers import Reader
-from textloops.tables import whole_effects
+from textloops.tables import whole_machine
 from textloops.watchers import exactly
 
 
@@ -21,9 +20,9 @@ class Verdict:
 def foretell(program, watcher):
     """Returns the reader that answers what the watcher answers to what the program prints on the text."""
     check_watcher(program, watcher)
-    whole = whole_effects(program, watcher, (0,))
-    answers = [watcher.answers[effect[0]] for effect in whole.answers]
-    return Reader(program.reads, whole.moves, answers)
+    machine, book = whole_machine(program, watcher, (0,))
+    answers = [watcher.answers[book.target(0, effect)] for effect in machine.answers]
+    return Reader(program.reads, machine.moves, answers)
 
 
 def verdict(program, watcher, *, wished, within=None):

@@ -2,8 +2,8 @@
 
 from textloops.entries import Entries
 from textloops.limits import check_spot, check_watcher
+from textloops.machines import machine_reader, mapped
 from textloops.outlines import Outline
-from textloops.readers import Reader
 from textloops.standings import Standings
 from textloops.tabling import Tabling
 
@@ -43,23 +43,22 @@ def tables(program, watcher):
 
 def spot_reader(tabling, spot):
     """Returns the reader of the effects of the statement at the spot."""
-    return effects_reader(tabling, tabling.machine(spot), tabling.names(spot), tabling.book(spot))
-
-
-def effects_reader(tabling, machine, names, book):
-    """Returns the reader with the effects of a machine for its answers."""
-    answers = [None if effect is None else book.targets(effect) for effect in machine.answers]
-    return Reader(tabling.program.reads, machine.moves, answers, names=names, lefts=machine.lefts)
+    machine = mapped(tabling.machine(spot), tabling.book(spot).targets)
+    return machine_reader(machine, tabling.program.reads, tabling.names(spot))
 
 
 def whole_table(program, watcher):
     """Returns the reader that tells the effect of the whole block of the program."""
     check_watcher(program, watcher)
-    return whole_effects(program, watcher, list(range(watcher.size)))
+    machine, book = whole_machine(program, watcher, list(range(watcher.size)))
+    return machine_reader(mapped(machine, book.targets), program.reads, ())
 
 
-def whole_effects(program, watcher, entering):
-    """Returns the reader of the effects of the whole block, for the states of the watcher in which it may begin."""
+def whole_machine(program, watcher, entering):
+    """Returns the machine of the effects of the whole block, and their book.
+
+    `entering` has the states of the watcher in which the block may begin.
+    """
     outline = Outline(program.block)
     standings = Standings(program, outline, watcher)
     entries = Entries(outline, standings)
@@ -67,4 +66,4 @@ def whole_effects(program, watcher, entering):
     tabling = Tabling(program, outline, standings, entries.met)
     book = tabling.book_for(watcher.size)
     begun = {standing: True for standing in entering}
-    return effects_reader(tabling, tabling.block_machine(outline.block, (), book, begun), (), book)
+    return (tabling.block_machine(outline.block, (), book, begun), book)

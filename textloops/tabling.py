@@ -56,8 +56,7 @@ class Tabling:
 
     def effect(self, spot, targets):
         """Returns the effect that leads the standings met at the spot to these targets."""
-        book = self.book(spot)
-        return book.then(book.staying(self.met[spot]), book.number(targets))
+        return self.book(spot).number([(standing, targets[standing]) for standing in sorted(self.met[spot])])
 
     def names(self, spot):
         return self.program.spots[spot][1]
@@ -104,10 +103,9 @@ class Tabling:
         body = self.block_machine(self.outline.blocks[spot][0], self.names(spot), inner, met)
 
         def without_mark(effect):
-            targets = inner.effects[effect]
-            found = [outer.nowhere for _ in range(outer.nowhere)]
-            for one in self.met[spot]:
-                found[one] = standings.without_mark(targets[standings.with_mark(one)])
+            found = []
+            for one in sorted(self.met[spot]):
+                found.append((one, standings.without_mark(inner.target(standings.with_mark(one), effect))))
             return outer.number(found)
 
         return mapped(body, without_mark)
