@@ -174,6 +174,14 @@ class LanguageTest(unittest.TestCase):
             if hasattr(builtins, node.id):
                 self.assertIn(node.id, CALLED | ERROR_CLASSES, where)
 
+    def test_stars_in_calls(self):
+        for where, node in self.nodes(ast.Call):
+            for part in node.args:
+                if isinstance(part, ast.Starred):
+                    inner = part.value.value if isinstance(part.value, ast.Attribute) else part.value
+                    self.assertIsInstance(inner, ast.Name, where)
+            self.assertFalse([keyword for keyword in node.keywords if keyword.arg is None], where)
+
     def test_things_iterated_at_once(self):
         for name, tree in self.trees.items():
             parents = parents_of(tree)

@@ -25,7 +25,8 @@ class Machine:
 
 def least_machine(width, count, moves, answers, lefts):
     """Returns the machine of a description that need not be in least form."""
-    return Machine(width, count, *least_form(width, moves, answers, lefts))
+    moves, answers, lefts = least_form(width, moves, answers, lefts)
+    return Machine(width, count, moves, answers, lefts)
 
 
 def constant_machine(width, count, answer):

@@ -17,7 +17,7 @@ class Span:
         """
         # Behind the row's own numbers stands what has been taken away so far: multiples of the rows, and of this row.
         width = len(row)
-        rest = [*row, *[0 for _ in range(self.size)], 1]
+        rest = row + [0 for _ in range(self.size)] + [1]
         for pivot, step in self.steps:
             if rest[pivot] != 0:
                 rest = without(rest, step, pivot, width)
@@ -37,7 +37,7 @@ def without(rest, step, pivot, width):
     times = step[pivot] // common
     taken = rest[pivot] // common
     # The step is shorter, for it was taken when there were fewer rows; its last number belongs to its own row.
-    long_step = [*step, *[0 for _ in range(len(rest) - len(step))]]
+    long_step = step + [0 for _ in range(len(rest) - len(step))]
     return [times * one - taken * two for one, two in zip(rest, long_step)]
 
 
