@@ -217,6 +217,27 @@ class LanguageTest(unittest.TestCase):
                     loop = parents[call]
                     self.assertTrue(isinstance(loop, ast.For) and loop.iter is call, f"{name}:{node.lineno}")
 
+    def test_methods_as_values_are_read_off_names(self):
+        methods = {
+            inner.name for _, node in self.nodes(ast.ClassDef) for inner in node.body
+            if isinstance(inner, ast.FunctionDef) and not inner.decorator_list
+        }
+        for name, tree in self.trees.items():
+            parents = parents_of(tree)
+            for node in ast.walk(tree):
+                if isinstance(node, ast.Attribute) and node.attr in methods:
+                    called = isinstance(parents[node], ast.Call) and parents[node].func is node
+                    owner = node.value
+                    while isinstance(owner, ast.Attribute):
+                        owner = owner.value
+                    self.assertTrue(called or isinstance(owner, ast.Name), f"{name}:{node.lineno}")
+
+    def test_no_attribute_has_the_name_of_a_property(self):
+        properties = {node.name for _, node in self.nodes(ast.FunctionDef) if node.decorator_list}
+        for where, node in self.nodes(ast.Attribute):
+            if isinstance(node.ctx, ast.Store):
+                self.assertNotIn(node.attr, properties, where)
+
     def test_strings(self):
         for where, node in self.nodes(ast.Constant):
             self.assertNotIsInstance(node.value, (float, complex), where)

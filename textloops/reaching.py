@@ -41,7 +41,8 @@ class Reaching:
 
     def nowhere(self, spot):
         """Returns the number which says that the statement at the spot is not begun."""
-        return self.tabling.book(spot).nowhere
+        book = self.tabling.book(spot)
+        return book.nowhere
 
     def begun(self, spot):
         """Returns the machine that tells whether the statement is begun."""
@@ -77,7 +78,8 @@ class Reaching:
         parent, branch, index = self.outline.homes[spot]
         if index > 0:
             before = self.spot_before(spot)
-            return joined(self.found[before], self.tabling.machine(before), self.tabling.book(spot).target)
+            book = self.tabling.book(spot)
+            return joined(self.found[before], self.tabling.machine(before), book.target)
         if parent == -1:
             return constant_machine(len(self.program.reads), 0, 0)
         kind = self.outline.statements[parent][0]
@@ -90,8 +92,9 @@ class Reaching:
     def within_loop(self, loop):
         """Returns the machine of the first statement in a loop."""
         rounds = self.tabling.rounds(loop)
+        book = self.tabling.book(loop)
         before = Prefixes(rounds).made(self.met[loop], self.tabling.met_within(loop))
-        return joined(lifted(self.found[loop]), before, self.tabling.book(loop).target)
+        return joined(lifted(self.found[loop]), before, book.target)
 
     def within_choice(self, spot, branch):
         """Returns the machine of the first statement of a branch of an `if`."""

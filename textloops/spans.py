@@ -7,7 +7,7 @@ class Span:
     """Rows none of which is a sum of multiples, with fractions as factors, of the ones before it."""
 
     def __init__(self):
-        self.size = 0
+        self.row_count = 0
         self.steps = []
 
     def factors(self, row):
@@ -17,14 +17,14 @@ class Span:
         """
         # Behind the row's own numbers stands what has been taken away so far: multiples of the rows, and of this row.
         width = len(row)
-        rest = row + [0 for _ in range(self.size)] + [1]
+        rest = row + [0 for _ in range(self.row_count)] + [1]
         for pivot, step in self.steps:
             if rest[pivot] != 0:
                 rest = without(rest, step, pivot, width)
         for pivot in range(width):
             if rest[pivot] != 0:
                 self.steps.append((pivot, shortened(rest)))
-                self.size += 1
+                self.row_count += 1
                 return None
         bottom = rest[-1]
         tops = [-top for top in rest[width:-1]]

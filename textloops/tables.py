@@ -43,7 +43,8 @@ def tables(program, watcher):
 
 def spot_reader(tabling, spot):
     """Returns the reader of the effects of the statement at the spot."""
-    machine = mapped(tabling.machine(spot), tabling.book(spot).targets)
+    book = tabling.book(spot)
+    machine = mapped(tabling.machine(spot), book.targets)
     return machine_reader(machine, tabling.program.reads, tabling.names(spot))
 
 
