@@ -4,14 +4,20 @@ import random
 import time
 import unittest
 
+from tests.faults import fault
 from tests.shapes import FOUR_MARKS, TWO_LOOPS, Shaper
+from textloops.alike import same_letters, same_lot, same_row
 from textloops.asking import far_answer
+from textloops.changing import beside, mirrored, recoded, renamed
+from textloops.comparing import relabelled
 from textloops.foretelling import foretell, printing, verdict
 from textloops.hanging import hangs
 from textloops.joining import behind, copying, row_of
+from textloops.powers import greatest, power
 from textloops.reaches import claim, come_to, printed_at, reach
 from textloops.tables import table, tables, whole_table
 from textloops.tallies import count_parting, far_count, tally, total_count
+from textloops.telling import tells
 from textloops.turning import turned
 from textloops.watchers import containing, counting, ending, exactly, never_behind, scattered
 
@@ -20,6 +26,11 @@ WATCHERS = (
     never_behind("ab", "a", "b"), exactly("ab", "a"),
 )
 MANY = 10 ** 40
+
+
+def counting_limit():
+    """Lets by the texts with an even number of letters b."""
+    return relabelled(counting("ab", "b", 2), [(0, True), (1, False)])
 
 
 def watcher_limit(watcher):
@@ -67,6 +78,35 @@ class SpeedTest(unittest.TestCase):
             self.assertSoon(5, behind, program, copying("ab"))
             self.assertSoon(5, row_of, [copying("ab"), copying("ab"), program])
             self.assertSoon(5, behind, program, TWO_LOOPS)
+
+    def test_questions_about_births_and_growth(self):
+        limit = containing("ab", "ab")
+        for program in (TWO_LOOPS, FOUR_MARKS, mirrored(TWO_LOOPS), mirrored(FOUR_MARKS)):
+            for within in (None, limit):
+                self.assertSoon(5, power, program, within=within)
+                self.assertSoon(5, power, program, letters="a", within=within)
+                bounded = exactly("ab", "abababab") if within else counting_limit()
+                self.assertSoon(5, fault, greatest, program, within=bounded)
+                for other in (turned(turned(program)), turned(program), mirrored(program)):
+                    for asked in (same_lot, same_row, same_letters):
+                        self.assertSoon(6, asked, program, other, within=within)
+                self.assertSoon(5, tells, program, within=within)
+                tagged = beside(program, renamed(copying("ab"), [("x", "z")]))
+                self.assertIsNone(self.assertSoon(5, tells, tagged, within=within))
+            self.assertSoon(5, recoded, program, [("a", "ba"), ("b", "")], prints="ab")
+
+    def test_births_and_growth_of_many_random_programs(self):
+        begin = time.perf_counter()
+        for seed in range(60):
+            rng = random.Random(seed)
+            for program in (Shaper(rng).two_loops(), mirrored(Shaper(rng).four_marks())):
+                power(program)
+                fault(greatest, program, letters="a", within=counting_limit())
+                same_row(program, turned(turned(program)))
+                same_lot(program, mirrored(program))
+                same_letters(program, turned(program))
+                tells(program)
+        self.assertLess(time.perf_counter() - begin, 60)
 
     def test_many_random_programs(self):
         begin = time.perf_counter()

@@ -4,7 +4,7 @@ from textloops.answers import wished_states
 from textloops.checks import letter_indexes
 from textloops.exploring import explored
 from textloops.paths import least_placed_text
-from textloops.placing import next_places
+from textloops.plans import ReaderPlan
 from textloops.readers import Reader
 
 
@@ -96,11 +96,12 @@ def placings(reader, text, wished):
     """Yields, in ascending order, the places with which the answer for the text is a wished one."""
     letters = letter_indexes(text, reader.alphabet)
     layer = wished_layer(reader, wished)
+    plan = ReaderPlan(len(reader.alphabet), len(reader.names), reader.moves, layer)
     waiting = [()]
     while waiting:
         places = waiting.pop()
         if len(places) < len(reader.names):
-            found = next_places(reader, letters, layer, places)
+            found = plan.next_places(letters, places)
             waiting.extend([(*places, place) for place in found[::-1]])
         elif reader.names or end_state(reader, 0, letters) in layer:
             yield places

@@ -82,11 +82,13 @@ def lifted(machine):
         moves.append(behind + [None for _ in range(loop * width)])
         lefts.extend([left + loop, left])
         answers.extend([None, answer])
-    return Machine(width, machine.count + 1, moves, answers, lefts)
+    return least_machine(width, machine.count + 1, moves, answers, lefts)
 
 
 def reordered(machine, order):
     """Returns the machine with its names in another order; `order` has the new index of each name."""
+    if order == list(range(machine.count)):
+        return machine
     sets = [0]
     for index in order:
         sets.extend([chosen + (1 << index) for chosen in sets])
@@ -98,7 +100,12 @@ def reordered(machine, order):
             changed.extend(row[old * machine.width:(old + 1) * machine.width])
         moves.append(changed)
     lefts = [sets[left] for left in machine.lefts]
-    return Machine(machine.width, machine.count, moves, machine.answers, lefts)
+    return least_machine(machine.width, machine.count, moves, machine.answers, lefts)
+
+
+def are_equal(one, two):
+    """Tells whether the machines, which read the same, give the same answers."""
+    return one.moves == two.moves and one.answers == two.answers
 
 
 def plain_machine(reader):

@@ -6,8 +6,10 @@ from textloops.conditions import check_test_form, check_test_names
 from textloops.foretelling import word_of
 from textloops.freezing import frozen
 from textloops.limits import check_limit, check_spot
-from textloops.machines import constant_machine, joined, limited, machine_reader, mapped, reordered
+from textloops.machines import limited, machine_reader, mapped
+from textloops.printings import Printings
 from textloops.reaching import Reaching
+
 
 def reach(program, spot):
     """Returns the reader that answers False, or the truth values of the marks with which the statement is begun."""
@@ -48,12 +50,5 @@ def claim(program, spot, test, *, within=None):
 def printed_at(program, names):
     """Returns the reader that answers what is printed with the birth that has these names and the places."""
     check_names(names)
-    wanted = sorted(names)
-    reaching = Reaching(program)
-    machine = constant_machine(len(program.reads), len(wanted), "")
-    loops = wanted
-    for spot in reaching.printing_spots(wanted):
-        loops = program.spots[spot][1]
-        machine = joined(machine, reaching.printed(spot), lambda before, word: before + word)
-    order = [wanted.index(name) for name in loops]
-    return machine_reader(reordered(machine, order), program.reads, wanted)
+    wanted = tuple(sorted(names))
+    return machine_reader(Printings(program).machine(wanted), program.reads, wanted)

@@ -1,5 +1,7 @@
 """Machines side by side, as states that are gone through in all ways at once."""
 
+from textloops.spans import Span
+
 
 class Weights:
     """The states of machines whose answers are numbers; a text's worth is the sum of the answers of all its ways.
@@ -50,13 +52,18 @@ class Weights:
 
 def worthy_states(machine):
     """Returns, in ascending order, the states from which an answer other than 0 can be reached."""
+    return leading_states(machine, lambda answer: answer != 0)
+
+
+def leading_states(machine, is_wished):
+    """Returns, in ascending order, the states from which an answer can be reached for which `is_wished` holds."""
     sources = [[] for _ in machine.moves]
     for state, row in enumerate(machine.moves):
         for target in row:
             if target is not None:
                 sources[target].append(state)
     ends = list(zip(machine.answers, machine.lefts))
-    waiting = [state for state, (answer, left) in enumerate(ends) if left == 0 and answer != 0]
+    waiting = [state for state, (answer, left) in enumerate(ends) if left == 0 and is_wished(answer)]
     kept = {state: True for state in waiting}
     while waiting:
         for source in sources[waiting.pop()]:
@@ -68,3 +75,20 @@ def worthy_states(machine):
 
 def product_sum(row, column):
     return sum([one * two for one, two in zip(row, column)])
+
+
+def least_worthy(weights, alphabet):
+    """Returns the least text whose worth is not 0, or None."""
+    span = Span()
+    candidates = [("", weights.first_row())]
+    # Texts come in text order; what can be told by earlier rows is worth nothing sooner than one of these is.
+    at = 0
+    while at < len(candidates):
+        text, row = candidates[at]
+        at += 1
+        if product_sum(row, weights.ends) != 0:
+            return text
+        if span.factors(row) is None:
+            for letter, sign in enumerate(alphabet):
+                candidates.append((text + sign, weights.row_behind(row, letter)))
+    return None
