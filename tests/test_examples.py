@@ -24,7 +24,7 @@ class ExamplesTest(unittest.TestCase):
     def test_examples(self):
         with open(PATH) as file:
             examples = file.read().strip("\n").split("\n\n")
-        self.assertEqual(len(examples), 47)
+        self.assertEqual(len(examples), 55)
         for example in examples:
             lines = example.split("\n")
             asked = [line[4:] for line in lines if line.startswith(">>> ")]

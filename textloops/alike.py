@@ -5,7 +5,7 @@ from textloops.limits import check_limit
 from textloops.lineups import least_row_parting, word_pairs
 from textloops.machines import mapped
 from textloops.plans import PairPlan
-from textloops.printings import Printings
+from textloops.printings import Printings, sorted_word
 from textloops.running import births
 from textloops.searching import least_found
 from textloops.weights import Weights, least_worthy
@@ -65,7 +65,3 @@ def first_unequal_index(one, two):
         if pair != other:
             return index
     return min(len(one), len(two))
-
-
-def sorted_word(word):
-    return "".join(sorted(word))

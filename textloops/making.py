@@ -2,6 +2,7 @@
 
 from textloops.conditions import folded, simple_tests
 from textloops.outlines import Outline
+from textloops.programs import blocks_within
 
 
 class FreshNames:
@@ -121,6 +122,19 @@ def useful_part(statement, blocks, tested):
     if blocks and not any([len(block) > 0 for block in blocks]):
         return ()
     return (with_blocks(statement, blocks),)
+
+
+def replaced(program, spot, count, block):
+    """Returns the program's block with another block in the place of so many statements, from the spot on."""
+    outline = Outline(program.block)
+    parent, branch, index = outline.homes[spot]
+    while parent != -1:
+        statement = outline.statements[parent]
+        blocks = list(blocks_within(statement))
+        blocks[branch] = blocks[branch][:index] + block + blocks[branch][index + count:]
+        block, count = (with_blocks(statement, blocks),), 1
+        parent, branch, index = outline.homes[parent]
+    return program.block[:index] + block + program.block[index + count:]
 
 
 def with_blocks(statement, blocks):

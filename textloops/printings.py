@@ -52,6 +52,10 @@ def added(one, two):
     return one + two
 
 
+def sorted_word(word):
+    return "".join(sorted(word))
+
+
 def sorted_sets(sets):
     """Returns the different sets of names, those with fewer names first, then in ascending order."""
     return sorted(sorted(set(sets)), key=lambda names: len(names))

@@ -4,7 +4,7 @@ from textloops.checks import letter_indexes
 from textloops.limits import check_limit
 from textloops.lots import Lots
 from textloops.machines import mapped
-from textloops.printings import Printings
+from textloops.printings import Printings, sorted_word
 from textloops.searching import Seeker, least_found
 
 
@@ -19,10 +19,6 @@ def tells(program, *, within=None):
         return None
     letters = letter_indexes(other, program.reads)
     return (least_found(program.reads, [Earlier(lots, within, letters)]), other)
-
-
-def sorted_word(word):
-    return "".join(sorted(word))
 
 
 class Twins(Seeker):
