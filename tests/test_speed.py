@@ -10,14 +10,18 @@ from textloops.alike import same_letters, same_lot, same_row
 from textloops.asking import far_answer
 from textloops.changing import beside, mirrored, recoded, renamed
 from textloops.comparing import relabelled
+from textloops.desk import Desk, perform
 from textloops.foretelling import foretell, printing, verdict
 from textloops.hanging import hangs
 from textloops.joining import behind, copying, row_of
+from textloops.marks import markless
 from textloops.powers import greatest, power
 from textloops.reaches import claim, come_to, printed_at, reach
+from textloops.reading import guarded, reading
 from textloops.tables import table, tables, whole_table
 from textloops.tallies import count_parting, far_count, tally, total_count
 from textloops.telling import tells
+from textloops.trimming import needless, trimmed
 from textloops.turning import turned
 from textloops.watchers import containing, counting, ending, exactly, never_behind, scattered
 
@@ -94,6 +98,43 @@ class SpeedTest(unittest.TestCase):
                 tagged = beside(program, renamed(copying("ab"), [("x", "z")]))
                 self.assertIsNone(self.assertSoon(5, tells, tagged, within=within))
             self.assertSoon(5, recoded, program, [("a", "ba"), ("b", "")], prints="ab")
+
+    def test_leaving_out_and_marks(self):
+        limit = containing("ab", "ab")
+        for program in (TWO_LOOPS, FOUR_MARKS, mirrored(TWO_LOOPS), mirrored(FOUR_MARKS)):
+            for within in (None, limit):
+                self.assertSoon(6, trimmed, program, within=within)
+                for spot in range(program.size):
+                    self.assertSoon(5, needless, program, spot, within=within)
+            self.assertSoon(5, markless, program)
+            for side in ("before", "after"):
+                made = self.assertSoon(5, guarded, program, program.size - 1, "x", containing("ab", "ba"), side=side)
+                self.assertSoon(5, foretell, made, counting("ab", "a", 2))
+                self.assertSoon(5, trimmed, made)
+        for seed in range(40):
+            rng = random.Random(seed)
+            for program in (Shaper(rng).two_loops(), mirrored(Shaper(rng).four_marks())):
+                self.assertSoon(6, trimmed, program)
+                self.assertSoon(5, markless, program)
+
+    def test_readers_in_programs_and_the_desk(self):
+        words = [(number, "ab" * number) for number in range(12)]
+        made = self.assertSoon(5, reading, counting("ab", "a", 12), words, prints="ab")
+        self.assertSoon(5, foretell, made, counting("ab", "a", 3))
+        self.assertSoon(5, reading, exactly("ab", "ab" * 20), [(True, "a"), (False, "")], prints="a")
+        desk = Desk()
+        programs = {"two": TWO_LOOPS, "four": FOUR_MARKS, "turn": turned(copying("ab")), "same": copying("ab")}
+        for name, program in programs.items():
+            self.assertSoon(5, desk.put_program, name, program)
+        for number, watcher in enumerate(WATCHERS):
+            self.assertSoon(5, desk.put_watcher, f"w{number}", watcher)
+            for name in ("two", "four"):
+                row = ["same", name, "turn"]
+                self.assertSoon(5, desk.foretold, row, f"w{number}")
+                wished = (0, 1, 2, True, False, "", "a", "b")
+                self.assertSoon(5, desk.put_wish, f"{name}{number}", row, f"w{number}", wished=wished)
+        self.assertSoon(8, desk.put_program, "turn", copying("ab"))
+        self.assertSoon(5, perform, desk, [("program", "two", FOUR_MARKS), ("program", "four", TWO_LOOPS)], late=True)
 
     def test_births_and_growth_of_many_random_programs(self):
         begin = time.perf_counter()
