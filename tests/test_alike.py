@@ -170,6 +170,15 @@ class RowTest(unittest.TestCase):
         self.assertEqual(same_row(one, two), ("aabb", 1))
         self.assertIsNone(same_row(one, two, within=Reader("ab", [(0, 1), (2, 2), (2, 2)], [True, True, False])))
 
+    def test_births_with_some_names_in_common(self):
+        def around(way):
+            first = ("for", "x", "up", [("if", ("in", "y", "a"), PRINT_C, [])])
+            second = ("for", "z", "up", [("if", ("and", ("in", "y", "b"), ("before", "z", "y")), PRINT_C, [])])
+            return program_of([("for", "y", way, [first, second])])
+        self.assertEqual(same_row(around("up"), around("down"), within=exactly("ab", "ab")), ("ab", 0))
+        self.assertIsNone(same_row(around("up"), around("down"), within=exactly("ab", "ba")))
+        self.assertEqual(same_row(around("up"), around("down")), ("aa", 0))
+
     def test_rows_that_begin_other_ones(self):
         one, two = program_of([("print", "cc")]), program_of([("print", "ccc")])
         self.assertEqual([same_row(one, two), same_row(two, one)], [("", 2), ("", 2)])

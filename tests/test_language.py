@@ -176,10 +176,16 @@ class LanguageTest(unittest.TestCase):
 
     def test_stars_in_calls(self):
         for where, node in self.nodes(ast.Call):
+            starred = False
             for part in node.args:
+                inner = part.value if isinstance(part, ast.Starred) else part
+                starred = starred or isinstance(part, ast.Starred)
+                while starred and isinstance(inner, ast.Attribute):
+                    inner = inner.value
                 if isinstance(part, ast.Starred):
-                    inner = part.value.value if isinstance(part.value, ast.Attribute) else part.value
                     self.assertIsInstance(inner, ast.Name, where)
+                elif starred:
+                    self.assertIsInstance(inner, (ast.Name, ast.Constant), where)
             self.assertFalse([keyword for keyword in node.keywords if keyword.arg is None], where)
 
     def test_things_iterated_at_once(self):

@@ -127,10 +127,15 @@ class MarklessTest(unittest.TestCase):
     def test_programs_without_marks(self):
         for program in (PAIRS, Program("a", "c", []), Program("ab", "c", [("for", "x", "up", [("for", "y", "up", [])])])):
             self.assertMarkless(program)
-        deep = [("print", "c")]
-        for name in ["x", "y", "z", "i", "j"]:
+        deep = [("if", ("before", "x", "i"), [("print", "c")], [("copy", "z")])]
+        for name in ["x", "y", "z", "i", "j", "k"]:
             deep = [("for", name, "up", deep)]
-        self.assertIsNone(same_lot(markless(program=Program("ab", "c", deep))[0], Program("ab", "c", deep)))
+        self.assertEqual(markless(program=Program("ab", "abc", deep)), (Program("ab", "abc", deep), None))
+        four = [("mark", "m", [("if", ("before", "x", "i"), [("print", "c")], [("copy", "z")])])]
+        for name in ["x", "y", "z", "i"]:
+            four = [("for", name, "up", four)]
+        made, _ = markless(Program("ab", "abc", four))
+        self.assertIsNone(same_lot(made, Program("ab", "abc", four)))
 
     def test_larger_programs(self):
         for program in (TWO_LOOPS, FOUR_MARKS, mirrored(TWO_LOOPS), mirrored(FOUR_MARKS)):

@@ -123,6 +123,29 @@ class PowerTest(unittest.TestCase):
         self.assertEqual(self.assertPower(halves, within=never_behind("ab", "b", "a")), 1)
         self.assertEqual(self.assertPower(halves, within=never_behind("ab", "a", "b")), -1)
 
+    def test_steps_that_take_several_letters(self):
+        second = parse_program(
+            "reads ab prints c\nfor x up:\n  mark m:\n    mark n:\n      for y up:\n        if x before y:\n"
+            "          if (m and not n):\n            print c\n            set n\n          set m"
+        )
+        self.assertEqual(self.assertPower(second), 1)
+        before_b = parse_program(
+            "reads ab prints c\nmark m:\n  for x down:\n    if m:\n      print c\n    clear m\n    if x in b:\n      set m"
+        )
+        self.assertEqual(self.assertPower(before_b), 1)
+        self.assertEqual(self.assertPower(before_b, within=never_behind("ab", "a", "b")), 1)
+        self.assertEqual(self.assertPower(before_b, within=never_behind("ab", "b", "b")), 0)
+
+    def test_several_ways_on(self):
+        for first, other in ("ab", "ba"):
+            # Behind one first letter all is let by, behind the other one nothing more.
+            moves = [(1, 2), (1, 1), (3, 3), (3, 3)] if first == "a" else [(2, 1), (1, 1), (3, 3), (3, 3)]
+            within = Reader("ab", moves, [False, True, True, False])
+            self.assertEqual(self.assertPower(copying("ab"), within=within), 1)
+            self.assertEqual(self.assertPower(copying("ab"), first, within), 1)
+            self.assertEqual(self.assertPower(PAIRS, within=within), 2)
+            self.assertTrue(within(first + other) and within(other))
+
     def test_letters_and_limits(self):
         program = parse_program("reads ab prints abc\nfor x up:\n  copy x\n  for y down:\n    print c")
         self.assertEqual([power(program, letters=some)[0] for some in ["a", "ab", "c", "abc", None]], [1, 1, 2, 2, 2])

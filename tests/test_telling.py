@@ -6,12 +6,13 @@ from tests.reference import random_description, texts_up_to
 from tests.runs import Maker, plain_births
 from tests.shapes import AFTER_A, FOUR_MARKS, PAIRS, TWO_LOOPS, Shaper
 from textloops.changing import mirrored
+from textloops.comparing import paired, relabelled
 from textloops.joining import copying
 from textloops.programs import Program
 from textloops.readers import Reader
 from textloops.telling import tells
 from textloops.watchers import containing, counting, ending, exactly, never_behind, scattered
-from textloops.writing import parse_program
+from textloops.writing import format_program, parse_program
 
 NONE = Reader("ab", [(0, 0)], [False])
 LENGTHS = {1: 8, 2: 6, 3: 4}
@@ -66,6 +67,54 @@ class TellsTest(unittest.TestCase):
         self.assertGreater(len(set(lengths)), 3)
         self.assertIn(-1, lengths)
 
+    def test_random_programs_with_texts_that_are_longer(self):
+        lengths = []
+        for program, _ in cases(15000, 200):
+            rng = random.Random(len(format_program(program)))
+            word = "".join(rng.choice(program.reads) for _ in range(rng.randint(2, 3)))
+            within = rng.choice([containing, scattered])(program.reads, word)
+            got = self.assertTells(program, within, LENGTHS[len(program.reads)])
+            lengths.append(-1 if got is None else len(got[1]))
+        self.assertGreater(len(set(lengths)), 2)
+
+    def test_the_order_of_the_two_texts(self):
+        nothing = Program("abc", "c", [])
+        for one, two in (("ab", "ba"), ("abc", "cab"), ("aca", "bab"), ("acab", "bacc"), ("c", "ab"), ("cc", "aaa")):
+            both = relabelled(
+                paired(exactly("abc", one), exactly("abc", two)),
+                [((False, False), False), ((True, False), True), ((False, True), True)],
+            )
+            self.assertEqual(tells(nothing, within=both), (one, two))
+
+    def test_pairs_that_are_kept_side_by_side(self):
+        # The next letter but one decides what is printed at a place; so several places wait for their letters at once.
+        later = parse_program(
+            "reads ab prints cd\nfor x up:\n  mark m:\n    mark n:\n      for y up:\n        if x before y:\n"
+            "          if (m and not n):\n            if y in a:\n              print c\n            else:\n              print d\n"
+            "            set n\n          set m"
+        )
+        long_enough = Reader("ab", [(at + 1, at + 1) for at in range(4)] + [(4, 4)], [False] * 4 + [True])
+        for program in (later, mirrored(later)):
+            for within in (None, long_enough, containing("ab", "ab"), containing("ab", "bab")):
+                self.assertTells(program, within, 7)
+
+    def test_what_is_forgotten(self):
+        until_b = parse_program("reads ab prints ab\nmark m:\n  for x up:\n    if not m:\n      copy x\n    if x in b:\n      set m")
+        self.assertEqual(tells(until_b), ("b", "ba"))
+        self.assertEqual(tells(until_b, within=containing("ab", "aab")), ("aab", "aaba"))
+        # All letters but the first one are printed; whether this is an a is seen at a b, unless aa came before.
+        first = parse_program(
+            "reads ab prints abc\nmark f:\n  mark m:\n    mark n:\n      for x up:\n        if f:\n          copy x\n"
+            "          if (m and x in b):\n            print c\n          if x in a:\n            if n:\n              clear m\n"
+            "            set n\n          else:\n            clear n\n        else:\n          set f\n          if x in a:\n"
+            "            set m"
+        )
+        self.assertTells(first, None, 6)
+        self.assertEqual(tells(first, within=Reader("ab", [(0, 1), (0, 1)], [False, True])), ("aaab", "baab"))
+        for word in ("abb", "bb", "abab"):
+            self.assertTells(first, containing("ab", word), 7)
+            self.assertTells(mirrored(first), containing("ab", word), 7)
+
     def test_the_empty_text(self):
         self.assertEqual(tells(Program("ab", "c", [])), ("", "a"))
         self.assertEqual(tells(Program("ab", "c", [("print", "c")])), ("", "a"))
@@ -111,6 +160,8 @@ class TellsTest(unittest.TestCase):
         )
         self.assertEqual(tells(program), ("a", "b"))
         self.assertEqual(tells(program, within=containing("ab", "ab")), ("aab", "bab"))
+        for word in ("abb", "baab", "aabb", "bbba"):
+            self.assertTells(program, containing("ab", word), 7)
         end = Program("ab", "cd", [("for", "y", "up", [("if", ("in", "y", "a"), [("print", "c")], [])]), *program.block])
         self.assertIsNone(tells(end))
 

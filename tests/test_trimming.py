@@ -220,6 +220,8 @@ class TrimmedTest(unittest.TestCase):
 
     def test_limits(self):
         self.assertEqual(trimmed(PAIRS), PAIRS)
+        for block in ([("mark", "m", [])], [("for", "x", "up", [])], []):
+            self.assertEqual(trimmed(Program("a", "c", block)), Program("a", "c", []))
         self.assertEqual(trimmed(AFTER_A), AFTER_A)
         self.assertEqual(trimmed(PAIRS, within=NONE).block, ())
         only = self.assertTrimmed(PAIRS, exactly("ab", "ab"))

@@ -54,10 +54,6 @@ def beside(one, two):
     """Returns the program that does the statements of the one program and then those of the other one."""
     if one.reads != two.reads or one.prints != two.prints:
         raise DifferentAlphabets()
-    taken = {name: True for name in names_of(Outline(one.block).statements)}
-    for name in names_of(Outline(two.block).statements):
-        if name in taken:
-            raise DoubleName(name)
     return Program(one.reads, one.prints, one.block + two.block)
 
 

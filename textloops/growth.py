@@ -50,16 +50,23 @@ class Growth:
                 if self.degrees[target] > degree:
                     degree = self.degrees[target]
                     begin = target
-        further = [target for target in reached if target != own and self.degrees[target] >= degree]
-        for target in sorted(further, key=lambda number: -self.degrees[number]):
-            if self.degrees[target] >= degree and self.has_ring(members) and self.has_ring(self.members[target]):
-                step = Repeats(self.rows, self.lefts, self.width).step(members, self.members[target])
-                if step is not None:
-                    degree = self.degrees[target] + 1
-                    begin = step
+        best = [target for target in reached if target != own and self.degrees[target] == degree]
+        step = self.repeatable(members, best)
+        if step is not None:
+            degree += 1
+            begin = step
         self.reached.append(reached)
         self.degrees.append(degree)
         self.begins.append(begin)
+
+    def repeatable(self, members, targets):
+        """Returns a repeatable step from one of the states to a state of one of these components, or None."""
+        for target in targets:
+            if self.has_ring(members) and self.has_ring(self.members[target]):
+                step = Repeats(self.rows, self.lefts, self.width).step(members, self.members[target])
+                if step is not None:
+                    return step
+        return None
 
     def has_ring(self, members):
         """Tells whether the states of a component lead to one another without placing a name."""

@@ -67,8 +67,12 @@ class Lineup:
             before.append(program.machine_to(first, end))
         if are_equal(*before):
             return []
-        split = joined(*before, lambda one, two: one != two)
+        split = joined(*before, differ)
         return [TwoBirths((first, second), (split, self.printing[second]), [tuple([0 for _ in first])])]
+
+
+def differ(one, two):
+    return one != two
 
 
 def all_signs(count):

@@ -13,6 +13,8 @@ from textloops.shapes import printing_block
 
 def markless(program):
     """Returns `(made, None)` with a program without marks that prints the same lot, or None and what shows why not."""
+    if "mark" not in [kind for kind, _, _ in program.spots]:
+        return (program, None)
     printings = Printings(program)
     machines = {names: mapped(printings.machine(names), sorted_word) for names in printings.chains}
     for names in sorted_sets(machines):

@@ -1,5 +1,6 @@
 """Whether the lot of births of a program tells the text."""
 
+from textloops.asking import useful_states
 from textloops.checks import letter_indexes
 from textloops.limits import check_limit
 from textloops.lots import Lots
@@ -33,11 +34,12 @@ class Twins(Seeker):
         self.lots = lots
         self.moves = [[0 for _ in range(lots.width)]] if within is None else within.moves
         self.answers = [True] if within is None else within.answers
+        self.hopeful = {0: True} if within is None else useful_states(within)
         pairs, ends = lots.first_pairs()
         self.firsts = []
         for one in range(len(lots.rears)):
             for two in range(len(lots.rears)):
-                if lots.agree(ends, one, two):
+                if 0 in self.hopeful and lots.agree(ends, one, two):
                     self.firsts.append((0, one, two, pairs, 0, 0))
 
     def may_end(self, rear, state):
@@ -56,21 +58,27 @@ class Twins(Seeker):
         """
         order, one, two, pairs, first, second = key
         found = []
+        if self.moves[second][letter] not in self.hopeful:
+            return found
         for own in self.letters_behind(one, first):
             kept, ends = self.lots.pairs_behind(pairs, own, letter)
             state = first if own is None else self.moves[first][own]
             sign = sign_behind(order, own, letter)
-            for rest in [None] if own is None else self.lots.shorter[one][own]:
+            own_rests = [None] if own is None else self.lots.shorter[one][own]
+            for rest in own_rests:
                 for other in rests:
                     if self.lots.agree(ends, rest, other):
                         found.append((own, (sign, rest, other, kept, state, self.moves[second][letter])))
         return found
 
     def letters_behind(self, rear, state):
-        """Returns the letters that the first text can have next, or None for its end."""
+        """Returns the letters that the first text can have next, and None for its end."""
         if rear is None:
             return [None]
-        found = [letter for letter in range(self.lots.width) if self.lots.shorter[rear][letter]]
+        found = []
+        for letter, target in enumerate(self.moves[state]):
+            if target in self.hopeful and self.lots.shorter[rear][letter]:
+                found.append(letter)
         return [*found, None] if self.may_end(rear, state) else found
 
 
@@ -78,7 +86,9 @@ def sign_behind(order, own, letter):
     """Returns how the letters are ordered behind two more letters; None is the end of the first text."""
     if own is None:
         return -1
-    return order if order != 0 else (own > letter) - (own < letter)
+    if order != 0 or own == letter:
+        return order
+    return -1 if own < letter else 1
 
 
 class Other(Twins):
@@ -141,8 +151,6 @@ class Earlier(Twins):
 
     def next_steps(self, key):
         at, own = key
-        if at == len(self.letters):
-            return []
         steps = self.steps(own, self.letters[at], [self.rests[at + 1]])
         return [(letter, (at + 1, target)) for letter, target in steps]
 
