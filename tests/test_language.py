@@ -188,6 +188,11 @@ class LanguageTest(unittest.TestCase):
                     self.assertIsInstance(inner, (ast.Name, ast.Constant), where)
             self.assertFalse([keyword for keyword in node.keywords if keyword.arg is None], where)
 
+    def test_no_stars_in_indexes_and_sets(self):
+        for where, node in self.nodes(ast.Subscript, ast.Set):
+            inner = node.slice if isinstance(node, ast.Subscript) else node
+            self.assertFalse([part for part in ast.walk(inner) if isinstance(part, ast.Starred)], where)
+
     def test_things_iterated_at_once(self):
         for name, tree in self.trees.items():
             parents = parents_of(tree)

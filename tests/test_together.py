@@ -10,7 +10,7 @@ from textloops.alike import same_letters, same_lot, same_row
 from textloops.asking import first_text, somewhere
 from textloops.changing import beside, mirrored, recoded, renamed
 from textloops.comparing import paired, parting, relabelled
-from textloops.desk import Desk
+from textloops.desk import Desk, perform
 from textloops.errors import Unbounded
 from textloops.foretelling import foretell, printing, verdict
 from textloops.hanging import hangs
@@ -27,7 +27,7 @@ from textloops.tallies import count_parting, tally, total_count
 from textloops.telling import tells
 from textloops.trimming import exchanged, needless, opened, struck, trimmed
 from textloops.turning import turned
-from textloops.watchers import containing, counting, ending, never_behind
+from textloops.watchers import containing, counting, ending, exactly, never_behind
 from textloops.writing import format_program, parse_program
 
 
@@ -242,6 +242,63 @@ class GrowthTest(unittest.TestCase):
             self.assertEqual(text, next(other for own, other in found if own == count))
             with self.assertRaises(Unbounded):
                 greatest(beside(program, other_names(copying("ab"))))
+
+
+def lists(value):
+    """The value with lists instead of tuples, at every level."""
+    return [lists(part) for part in value] if isinstance(value, (list, tuple)) else value
+
+
+class SequencesTest(unittest.TestCase):
+    def assertTuples(self, value):
+        """No list stands in the value, at no level."""
+        self.assertNotIsInstance(value, list)
+        if isinstance(value, tuple):
+            for part in value:
+                self.assertTuples(part)
+
+    def test_lists_may_be_passed_and_are_not_modified(self):
+        desk = Desk()
+        desk.put_program("p", copying("ab"))
+        desk.put_watcher("w", ending("ab"))
+        words = [("", "c"), ("a", ""), ("b", "cc"), (("q", (1, 2)), "c")]
+        for function, rest, more in (
+            (renamed, (PAIRS, [("x", "z")]), {}), (recoded, (copying("ab"), [("a", ""), ("b", "cc")]), {"prints": "c"}),
+            (reading, (ending("ab"), words), {"prints": "c"}), (row_of, ([copying("ab"), PAIRS],), {}),
+            (desk.foretold, (["p", "p"], "w"), {}), (claim, (AFTER_A, 3, ("not", ("mark", "m"))), {}),
+            (Program, ("ab", "c", PAIRS.block), {}), (printed_at, (PAIRS, ["y", "x"]), {}),
+            (relabelled, (ending("ab"), [("", ("a", ("b", 1)))]), {}),
+        ):
+            passed = lists(rest)
+            answer = function(*passed, **more)
+            self.assertEqual(passed, lists(rest))
+            self.assertEqual(answer, function(*rest, **more))
+        deeds = [["wish", "v", ["p"], "w", ["", "a", "b", ["c", [1]]]], ["strike", "v"]]
+        perform(desk, deeds)
+        self.assertEqual(deeds, [["wish", "v", ["p"], "w", ["", "a", "b", ["c", [1]]]], ["strike", "v"]])
+        wished = ["", "a", "b"]
+        desk.put_wish("v", ["p"], "w", wished=wished)
+        self.assertEqual(wished, ["", "a", "b"])
+
+    def test_tuples_are_returned(self):
+        desk = Desk()
+        desk.put_program("p", copying("ab"))
+        desk.put_watcher("w", ending("ab"))
+        desk.put_wish("v", ["p"], "w", wished=["", "a", "b", ["c", [1]]])
+        made = guarded(PAIRS, 2, "x", containing("ab", "a"), side="after")
+        for value in (
+            power(PAIRS), greatest(copying("ab"), within=exactly("ab", "ab")),
+            same_lot(PAIRS, AFTER_A), same_row(PAIRS, AFTER_A), same_letters(PAIRS, AFTER_A), tells(PAIRS),
+            markless(AFTER_A)[1], desk.entry_names(), desk.entry("v"), made.block, made.spots, trimmed(made).block,
+            reading(ending("ab"), [["", "c"], ["a", "c"], ["b", "cc"]], prints="c").block, mirrored(AFTER_A).block,
+            renamed(AFTER_A, [["m", "n"]]).block, beside(PAIRS, renamed(AFTER_A, [["x", "n"]])).block,
+            recoded(copying("ab"), [["a", "b"], ["b", ""]], prints="b").block, struck(AFTER_A, 3).block,
+            exchanged(AFTER_A, 2).block, opened(AFTER_A, 2, 0).block, markless(copying("ab"))[0].block,
+        ):
+            self.assertTuples(value)
+        with self.assertRaises(Unbounded) as caught:
+            greatest(PAIRS)
+        self.assertTuples(caught.exception.rounds)
 
 
 class ReadyProgramsTest(unittest.TestCase):

@@ -116,7 +116,8 @@ class TwoBirths(Seeker):
         self.hopeful = {signs: True for signs in wanted}
         for index in range(len(self.shared)):
             for signs in list(self.hopeful):
-                self.hopeful[(*signs[:index], None, *signs[index + 1:])] = True
+                without_one = (*signs[:index], None, *signs[index + 1:])
+                self.hopeful[without_one] = True
         self.known = {}
         start = (0, 0, tuple([None for _ in self.shared]))
         super().__init__([start] if 0 in self.worthy[0] and 0 in self.worthy[1] else [])

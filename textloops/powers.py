@@ -42,7 +42,7 @@ def greatest_count(made):
 
     def row_of(row):
         behind = [row_behind(made, row, [letter]) for letter in range(len(made.alphabet))]
-        return [(tuple(tops), bottom) for tops, bottom in behind]
+        return [(tuple(factors), below) for factors, below in behind]
 
     tops, bottom = first_row(made)
     keys, rows = explored((tuple(tops), bottom), row_of)
