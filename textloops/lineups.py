@@ -52,10 +52,13 @@ class Lineup:
     def order_seekers(self, first, second):
         """Returns what looks for births of these sets of which another one is the first one in the other program."""
         shared = [name for name in first if name in second]
+        one, two = [program.ways(first)[:len(shared)] for program in self.programs]
+        # If the shared loops are the same in both programs, only births at the same places of theirs can differ.
+        rows = [tuple([0 for _ in shared])] if one == two else all_signs(len(shared))
         wanted = []
-        for signs in all_signs(len(shared)):
-            one, two = [is_before(program, first, second, shared, signs) for program in self.programs]
-            if one != two:
+        for signs in rows:
+            befores = [is_before(program, first, second, shared, signs) for program in self.programs]
+            if befores[0] != befores[1]:
                 wanted.append(signs)
         return [TwoBirths((first, second), (self.printing[first], self.printing[second]), wanted)] if wanted else []
 
@@ -63,7 +66,7 @@ class Lineup:
         """Returns what looks for a birth between whose letters the loop further in does not stand at the same point."""
         before = []
         for program in self.programs:
-            end = program.loop_spot(program.chains[second][len(first)])
+            end = program.loop_spots[program.chains[second][len(first)]]
             before.append(program.machine_to(first, end))
         if are_equal(*before):
             return []
@@ -89,15 +92,14 @@ def is_before(program, first, second, shared, signs):
     The signs tell how its places lie to those of the other one, for the shared names. The answer is None if this does
     not decide it.
     """
-    one, two = program.chains[first], program.chains[second]
     depth = len(shared)
-    for name in one[:depth]:
+    for name, is_up in program.ways(first)[:depth]:
         sign = signs[shared.index(name)]
         if sign != 0:
-            return (sign == -1) == program.goes_up(name)
-    if depth in (len(one), len(two)):
+            return (sign == -1) == is_up
+    if depth in (len(first), len(second)):
         return None
-    return program.loop_spot(one[depth]) < program.loop_spot(two[depth])
+    return program.loop_spots[program.chains[first][depth]] < program.loop_spots[program.chains[second][depth]]
 
 
 class TwoBirths(Seeker):

@@ -8,7 +8,8 @@ class Printings:
     """Machines of the letters that a program prints with the births of a set of names.
 
     Sets of names are tuples in alphabetical order. `chains` has, for each set of loops around a statement that prints,
-    the names of these loops from the outermost to the innermost one.
+    the names of these loops from the outermost to the innermost one. By name, `loop_spots` has the spots of all loops,
+    and `goes_up` tells whether they go up.
     """
 
     def __init__(self, program):
@@ -18,6 +19,12 @@ class Printings:
         for kind, loops, _ in program.spots:
             if kind in ("print", "copy"):
                 self.chains[tuple(sorted(loops))] = loops
+        self.loop_spots = {}
+        self.goes_up = {}
+        for spot, statement in enumerate(self.reaching.outline.statements):
+            if statement[0] == "for":
+                self.loop_spots[statement[1]] = spot
+                self.goes_up[statement[1]] = statement[2] == "up"
         self.found = {}
 
     def machine(self, names):
@@ -39,13 +46,9 @@ class Printings:
         order = [names.index(name) for name in self.chains.get(names, names)]
         return reordered(machine, order)
 
-    def loop_spot(self, name):
-        """Returns the spot of the loop with this name."""
-        return [part[:2] for part in self.reaching.outline.statements].index(("for", name))
-
-    def goes_up(self, name):
-        """Tells whether the loop with this name goes up."""
-        return self.reaching.outline.statements[self.loop_spot(name)][2] == "up"
+    def ways(self, names):
+        """Returns, from the outermost to the innermost one, pairs of a loop's name and whether it goes up."""
+        return [(name, self.goes_up[name]) for name in self.chains[names]]
 
 
 def added(one, two):
