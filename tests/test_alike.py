@@ -203,6 +203,8 @@ class RowTest(unittest.TestCase):
     def test_loops_beside_one_another(self):
         loops = [("for", "x", "up", PRINT_C), ("for", "y", "up", PRINT_C)]
         self.assertEqual(same_row(program_of(loops), program_of(loops[::-1])), ("a", 0))
+        one, two = [program_of([("for", "z", "up", row)]) for row in (loops, loops[::-1])]
+        self.assertEqual(same_row(one, two), ("a", 0))
         chosen = [("if", ("in", "z", "a"), [loops[0]], [loops[1]])]
         other = [("if", ("in", "z", "b"), [loops[1]], [loops[0]])]
         self.assertIsNone(same_row(program_of([("for", "z", "up", chosen)]), program_of([("for", "z", "up", other)])))

@@ -9,7 +9,7 @@ from tests.shapes import FOUR_MARKS, TWO_LOOPS, Shaper
 from textloops.alike import same_letters, same_lot, same_row
 from textloops.asking import far_answer
 from textloops.changing import beside, mirrored, recoded, renamed
-from textloops.comparing import relabelled
+from textloops.comparing import paired, relabelled
 from textloops.desk import Desk, perform
 from textloops.foretelling import foretell, printing, verdict
 from textloops.hanging import hangs
@@ -98,6 +98,17 @@ class SpeedTest(unittest.TestCase):
                 tagged = beside(program, renamed(copying("ab"), [("x", "z")]))
                 self.assertIsNone(self.assertSoon(5, tells, tagged, within=within))
             self.assertSoon(5, recoded, program, [("a", "ba"), ("b", "")], prints="ab")
+
+    def test_limits_with_many_states(self):
+        count = counting("ab", "a", 12)
+        limit = relabelled(paired(count, counting("ab", "b", 11)), [((2, 3), True)])
+        rest = [(answer, False) for answer in limit.answers if answer is not True]
+        limit = relabelled(limit, rest)
+        for program in (copying("ab"), FOUR_MARKS, mirrored(FOUR_MARKS)):
+            self.assertSoon(5, power, program, within=limit)
+            self.assertSoon(8, tells, program, within=limit)
+            self.assertSoon(5, same_letters, program, turned(program), within=limit)
+            self.assertSoon(8, same_row, program, mirrored(program), within=limit)
 
     def test_leaving_out_and_marks(self):
         limit = containing("ab", "ab")

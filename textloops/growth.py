@@ -61,9 +61,12 @@ class Growth:
 
     def repeatable(self, members, targets):
         """Returns a repeatable step from one of the states to a state of one of these components, or None."""
+        if not self.has_ring(members):
+            return None
+        repeats = Repeats(self.rows, self.lefts, self.width, members)
         for target in targets:
-            if self.has_ring(members) and self.has_ring(self.members[target]):
-                step = Repeats(self.rows, self.lefts, self.width).step(members, self.members[target])
+            if self.has_ring(self.members[target]):
+                step = repeats.step(self.members[target])
                 if step is not None:
                     return step
         return None

@@ -12,17 +12,35 @@ class Repeats:
     state is on the way from the one to the other.
     """
 
-    def __init__(self, rows, lefts, width):
+    def __init__(self, rows, lefts, width, ones):
         self.rows = rows
         self.lefts = lefts
         self.width = width
+        self.ones = {one: True for one in ones}
+        self.pairs = self.pairs_with_third()
 
-    def step(self, ones, others):
-        """Returns a triple of one of the states, the letters of the word, and one of the other states, or None."""
+    def pairs_with_third(self):
+        """Returns a dict of True for the pairs of one of the states and the third state that the same words lead to."""
+        waiting = [(one, one) for one in self.ones]
+        met = {}
+        while waiting:
+            one, third = waiting.pop()
+            for letter, target in enumerate(self.rows[one][:self.width]):
+                if target in self.ones:
+                    for further in self.rows[third][letter::self.width]:
+                        if further is not None and (target, further) not in met:
+                            met[(target, further)] = True
+                            waiting.append((target, further))
+        return met
+
+    def step(self, others):
+        """Returns a triple of one of the states, the letters of the word, and one of the other states, or None.
+
+        The other states lead to one another. The third state becomes the other one: so only pairs met with it matter.
+        """
         left = self.lefts[others[0]]
-        if self.lefts[ones[0]] == left or self.lefts[ones[0]] & left != left:
-            return None
-        pairs = [(one, other) for one in ones for other in others]
+        wanted = {other: True for other in others}
+        pairs = [pair for pair in self.pairs if pair[1] in wanted]
         moves = self.pair_moves(pairs)
         # A key is the number of a pair and the third state; at the beginning, before a name is placed, this is None.
         waiting = [(pair, None) for pair in range(len(pairs))]
