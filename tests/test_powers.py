@@ -106,6 +106,11 @@ class PowerTest(unittest.TestCase):
             "reads ab prints c\nmark m:\n  for x up:\n    for y up:\n      if not m:\n        print c\n        set m"
         )
         self.assertEqual(self.assertPower(once), 0)
+        last = parse_program(
+            "reads ab prints c\nmark m:\n  for x down:\n    if (x in b and not m):\n      print c\n      set m"
+        )
+        self.assertEqual(self.assertPower(last), 0)
+        self.assertEqual(greatest(last), (1, "b"))
         near = parse_program(
             "reads ab prints c\nfor x up:\n  mark m:\n    for y up:\n      if (x before y and not m):\n"
             "        print c\n        set m"
