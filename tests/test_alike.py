@@ -119,6 +119,16 @@ class LotTest(unittest.TestCase):
         self.assertEqual(same_lot(one, last), ("b", (("y", 0),)))
         self.assertEqual(same_lot(one, last, within=containing("ab", "bb")), ("bb", (("y", 1),)))
 
+    def test_other_letters_of_the_text(self):
+        one, two = [
+            program_of([("for", "x", "up", [("if", ("in", "x", letters), PRINT_C, [])])], reads="abc")
+            for letters in ("ab", "ac")
+        ]
+        self.assertEqual(same_lot(one, two), ("b", (("x", 0),)))
+        self.assertEqual(same_row(one, two), ("b", 0))
+        self.assertEqual(same_letters(one, two), ("b", "c"))
+        self.assertEqual(same_letters(one, two, within=containing("abc", "bc")), ("bbc", "c"))
+
     def test_letters_of_one_birth(self):
         one = program_of([("for", "x", "up", [("print", "cd"), ("print", "d")])], "cde")
         self.assertIsNone(same_lot(one, program_of([("for", "x", "down", [("print", "ddc")])], "cde")))
